@@ -57,7 +57,7 @@ func (m meaning) node(node int) []api.Bounds {
 	}
 	m.nodes[node] = nil
 	if len(lows) > 0 {
-		m.nodes[node] = []api.Bounds{{Low: slices.Min(lows), High: slices.Max(highs)}}
+		m.nodes[node] = []api.Bounds{{Low: slices.Min(lows), High: slices.Min(highs)}}
 	}
 	return m.nodes[node]
 }

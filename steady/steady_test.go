@@ -183,7 +183,7 @@ func TestSolveNothing(t *testing.T) {
 	alone.expectSolve(t, pressures([][]int{unknown}))
 }
 
-// P21.1: ports that flow in make their node known, also where no segment is; ports that flow out, or not at all, do not count.
+// P21.1: ports that flow in make their node known, also where no segment is, with the least Pressure of them as both bounds; ports that flow out, or not at all, do not count.
 func TestSolvePorts(t *testing.T) {
 	for _, x := range []struct {
 		rates []int
@@ -193,10 +193,11 @@ func TestSolvePorts(t *testing.T) {
 		{[]int{5, -5, 0, 0}, []int{700}},
 		{[]int{-5, 5, 0, 0}, []int{300}},
 		{[]int{-5, 0, 5, 0}, []int{500}},
-		{[]int{-9, 3, 5, 1}, []int{0, 500}},
-		{[]int{1, 2, -3, 0}, []int{300, 700}},
-		{[]int{1, 2, 3, -6}, []int{300, 700}},
-		{[]int{1, -2, -3, 4}, []int{0, 700}},
+		{[]int{-9, 3, 5, 1}, []int{0}},
+		{[]int{1, 2, -3, 0}, []int{300}},
+		{[]int{1, -3, 2, 0}, []int{500}},
+		{[]int{1, 2, 3, -6}, []int{300}},
+		{[]int{1, -2, -3, 4}, []int{0}},
 	} {
 		n := build(2, nil, 0, 0, 0, 0)
 		n.Ports[0].Pressure, n.Ports[1].Pressure, n.Ports[2].Pressure = 700, 300, 500
@@ -204,31 +205,93 @@ func TestSolvePorts(t *testing.T) {
 	}
 }
 
-// P21.1: to a node comes the least Low and the greatest High of all that comes, by segments in both directions and by ports.
+// P21.1: a node has the least of all that comes, by segments in both directions and by ports, and so has what it flows to.
 func TestSolveJoin(t *testing.T) {
 	pipes := []pipe{{0, 1, 100, 10}, {1, 0, 200, 7}, {0, 1, 300, 0}, {1, 2, 50, 1}}
 	n := build(3, pipes, 0, 1, 2)
-	n.Ports[0].Pressure, n.Ports[1].Pressure = 50000, 46000
+	n.Ports[0].Pressure = 50000
 	p := api.Plan{Rates: []int{10, -20, 0, 35}, Ports: []int{30, 5, -35}}
 	w := water(n, p)
 	// Segment 0 loses 1000, segment 1 2800, segment 3 1225.
+	for _, x := range []struct{ port, node, last int }{
+		{46000, 46000, 44775},
+		{47199, 47199, 45974},
+		{48000, 47200, 45975},
+		{52000, 47200, 45975},
+	} {
+		w.n.Ports[1].Pressure = x.port
+		w.expectSolve(t, pressures(
+			[][]int{{50000}, {x.node}, {x.last}},
+			sure(0, 50000, 100, 49000), sure(0, 47200, 200, 50000), nil, sure(0, x.node, 50, x.last),
+		))
+	}
+	// With nothing at the port of node 1, and as much less to the last node.
+	w.p.Rates[3], w.p.Ports = 30, []int{30, 0, -30}
+	w.n.Ports[1].Pressure = 1
 	w.expectSolve(t, pressures(
-		[][]int{{50000}, {46000, 49000}, {44775, 47775}},
-		sure(0, 50000, 100, 49000), sure(0, 47200, 200, 50000), nil,
-		[]api.Level{{At: 0, Bounds: api.Bounds{Low: 46000, High: 49000}}, {At: 50, Bounds: api.Bounds{Low: 44775, High: 47775}}},
+		[][]int{{50000}, {47200}, {46300}},
+		sure(0, 50000, 100, 49000), sure(0, 47200, 200, 50000), nil, sure(0, 47200, 50, 46300),
 	))
-	w.n.Ports[1].Pressure = 48000
-	w.expectSolve(t, pressures(
-		[][]int{{50000}, {47200, 49000}, {45975, 47775}},
-		sure(0, 50000, 100, 49000), sure(0, 47200, 200, 50000), nil,
-		[]api.Level{{At: 0, Bounds: api.Bounds{Low: 47200, High: 49000}}, {At: 50, Bounds: api.Bounds{Low: 45975, High: 47775}}},
-	))
-	w.n.Ports[1].Pressure = 52000
-	w.expectSolve(t, pressures(
-		[][]int{{50000}, {47200, 52000}, {45975, 50775}},
-		sure(0, 50000, 100, 49000), sure(0, 47200, 200, 50000), nil,
-		[]api.Level{{At: 0, Bounds: api.Bounds{Low: 47200, High: 52000}}, {At: 50, Bounds: api.Bounds{Low: 45975, High: 50775}}},
-	))
+}
+
+// halves is a network in which the bounds of what comes to node 1 by segment 0, of which both sections climb 5 metres, differ by two Pa; a port at node 1 joins it, and segment 1 leaves.
+func halves(port int) work {
+	n := build(3, []pipe{{0, 1, 100, 0}, {1, 2, 100, 0}}, 0, 1, 2)
+	n.Segments[0].Points = []api.Point{{At: 0, Height: 0, Limit: 900000}, {At: 40, Height: 5, Limit: 900000}, {At: 100, Height: 10, Limit: 900000}}
+	n.Ports[0].Pressure, n.Ports[1].Pressure = 300000, port
+	w := water(n, api.Plan{Rates: []int{3, 4}, Ports: []int{3, 1, -4}})
+	w.products[0].Density = 500
+	return w
+}
+
+// P21.1: the least Low and the least High may be those of different things that come.
+func TestSolveJoinBounds(t *testing.T) {
+	// Each of the two lifts is 9807 * 5 / 2 = 24517.5.
+	for _, x := range []struct{ port, low, high int }{
+		{250960, 250960, 250960},
+		{250964, 250964, 250964},
+		{250965, 250964, 250965},
+		{250966, 250964, 250966},
+		{250967, 250964, 250966},
+		{900000, 250964, 250966},
+	} {
+		b := api.Bounds{Low: x.low, High: x.high}
+		halves(x.port).expectSolve(t, pressures(
+			[][]int{{300000}, {x.low, x.high}, {x.low, x.high}},
+			[]api.Level{
+				{At: 0, Bounds: api.Bounds{Low: 300000, High: 300000}},
+				{At: 40, Bounds: api.Bounds{Low: 275482, High: 275483}},
+				{At: 100, Bounds: api.Bounds{Low: 250964, High: 250966}},
+			},
+			[]api.Level{{At: 0, Bounds: b}, {At: 100, Bounds: b}},
+		))
+	}
+}
+
+// P21.1, P21.3: only the least High of all that comes to a node goes on to what it flows to, and is held against its limits.
+func TestCheckJoin(t *testing.T) {
+	n := build(3, []pipe{{0, 1, 100, 0}, {1, 2, 100, 0}}, 0, 1, 2)
+	n.Segments[1].Points[0].Limit = 400000
+	w := water(n, api.Plan{Rates: []int{3, 4}, Ports: []int{3, 1, -4}})
+	fault := api.Fault{Kind: api.FaultHigh, Index: 1, At: 0}
+	for _, x := range []struct {
+		first, second int
+		want          api.Fault
+	}{
+		{500000, 300000, none},
+		{300000, 500000, none},
+		{400000, 500000, none},
+		{500000, 400000, none},
+		{400001, 500000, fault},
+		{500000, 400001, fault},
+	} {
+		w.n.Ports[0].Pressure, w.n.Ports[1].Pressure = x.first, x.second
+		wantErr := api.OK
+		if x.want != none {
+			wantErr = api.ErrPressure
+		}
+		w.expectCheck(t, x.want, wantErr)
+	}
 }
 
 // P21.1: a station raises all that leaves its node over segments, by the boost at the sum of their amounts; what leaves over a port does not count for it, nor does what comes.
@@ -259,12 +322,18 @@ func TestSolveStation(t *testing.T) {
 
 // P21.1: both bounds are raised, and the node keeps its own.
 func TestSolveStationBounds(t *testing.T) {
-	n := build(2, []pipe{{0, 1, 100, 0}}, 0, 0, 1)
-	n.Ports[0].Pressure, n.Ports[1].Pressure = 70, 30
-	n.Stations = []api.Station{pump("p", 0, 1000, 0, 0)}
-	w := water(n, api.Plan{Rates: []int{3}, Ports: []int{1, 2, -3}, Pumps: []bool{true}})
-	raised := api.Bounds{Low: 1030, High: 1070}
-	w.expectSolve(t, pressures([][]int{{30, 70}, {1030, 1070}}, []api.Level{{At: 0, Bounds: raised}, {At: 100, Bounds: raised}}))
+	w := halves(300000)
+	w.n.Stations, w.p.Pumps = []api.Station{pump("p", 1, 1000, 0, 0)}, []bool{true}
+	raised := api.Bounds{Low: 251964, High: 251966}
+	w.expectSolve(t, pressures(
+		[][]int{{300000}, {250964, 250966}, {251964, 251966}},
+		[]api.Level{
+			{At: 0, Bounds: api.Bounds{Low: 300000, High: 300000}},
+			{At: 40, Bounds: api.Bounds{Low: 275482, High: 275483}},
+			{At: 100, Bounds: api.Bounds{Low: 250964, High: 250966}},
+		},
+		[]api.Level{{At: 0, Bounds: raised}, {At: 100, Bounds: raised}},
+	))
 }
 
 // P21.1: each segment has the levels of its own profile, fill and rate, with all products that lie in it.

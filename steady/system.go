@@ -61,7 +61,7 @@ func (s system) pressures(order []int) api.Pressures {
 		if len(comes) == 0 {
 			continue
 		}
-		x.Known[node], x.Nodes[node] = true, around(comes)
+		x.Known[node], x.Nodes[node] = true, least(comes)
 		leaving := s.leaving(node)
 		in := s.raised(node, x.Nodes[node], leaving)
 		for _, i := range leaving {
@@ -91,11 +91,11 @@ func (s system) comes(node int, levels [][]api.Level) []api.Bounds {
 	return all
 }
 
-// around returns the bounds within which all are, of which there is at least one.
-func around(all []api.Bounds) api.Bounds {
+// least returns the least Low and the least High of all, of which there is at least one.
+func least(all []api.Bounds) api.Bounds {
 	bounds := all[0]
 	for _, b := range all {
-		bounds.Low, bounds.High = min(bounds.Low, b.Low), max(bounds.High, b.High)
+		bounds.Low, bounds.High = min(bounds.Low, b.Low), min(bounds.High, b.High)
 	}
 	return bounds
 }
